@@ -5,6 +5,7 @@ import (
 	"strings"
 
 	"sallyport/api"
+	"sallyport/decimal"
 )
 
 // An address as text: groups of 16 bits, or four bytes.
@@ -13,7 +14,6 @@ const (
 	groupBits  = 16
 	byteCount  = 4
 	maxText    = 39 // eight groups of four digits, and what stands between them
-	maxDigits  = 10 // of a number
 )
 
 // groups are an address's bits, the highest first.
@@ -75,7 +75,7 @@ func parsePrefix(head, bits string) (api.Range, api.Errno) {
 	if e != api.OK {
 		return api.Range{}, e
 	}
-	n, ok := parseNumber(bits)
+	n, ok := decimal.Parse(bits)
 	if !ok {
 		return api.Range{}, api.ErrRange
 	}
@@ -95,19 +95,6 @@ func parseEnds(from, to string) (api.Range, api.Errno) {
 		return api.Range{}, api.ErrRange
 	}
 	return api.Range{From: a, To: b}, api.OK
-}
-
-// parseNumber answers the number whose text is s.
-func parseNumber(s string) (int, bool) {
-	if len(s) > maxDigits {
-		return 0, false
-	}
-	n, err := strconv.Atoi(s)
-	// A number has one text, but Atoi takes signs, and noughts ahead, too.
-	if err != nil || n < 0 || strconv.Itoa(n) != s {
-		return 0, false
-	}
-	return n, true
 }
 
 func print4(n uint32) string {
